@@ -1,0 +1,81 @@
+"""Point 4: each refusal is of a class of its own under RiseError."""
+
+import unittest
+
+from keyrise import errors
+from keyrise.counts import count_row, fixed_row, read_count, read_fixed, read_whole, whole_row
+
+NAMES = ["NoFit", "Short", "Wrong", "Left", "NoForm", "NoText", "NotAhead", "BadPage", "Twice", "Lacking"]
+PLACED = ["Short", "Wrong", "Left"]
+
+
+def refusal_of(ask):
+    try:
+        ask()
+    except ValueError as e:
+        return e
+    return None
+
+
+class ErrorClasses(unittest.TestCase):
+    def test_rise_error_is_a_value_error(self):
+        self.assertEqual(errors.RiseError.__bases__, (ValueError,))
+
+    def test_each_stands_straight_under_rise_error(self):
+        for name in NAMES:
+            with self.subTest(name):
+                self.assertEqual(getattr(errors, name).__bases__, (errors.RiseError,))
+
+    def test_none_stands_above_another(self):
+        for one in NAMES:
+            for other in NAMES:
+                with self.subTest(one=one, other=other):
+                    under = issubclass(getattr(errors, one), getattr(errors, other))
+                    self.assertEqual(under, one == other)
+
+    def test_place_is_set_when_the_error_is_made(self):
+        for name in PLACED:
+            for place in (0, 7, 40000):
+                with self.subTest(name, place=place):
+                    self.assertEqual(getattr(errors, name)(place).place, place)
+
+    def test_errors_can_be_raised_and_have_words(self):
+        for name in NAMES:
+            made = getattr(errors, name)
+            error = made(3) if name in PLACED else made("words")
+            with self.subTest(name):
+                self.assertNotEqual(str(error), "")
+                with self.assertRaises(made):
+                    raise error
+
+
+class Refusals(unittest.TestCase):
+    def check(self, name, ask):
+        error = refusal_of(ask)
+        self.assertIsInstance(error, errors.RiseError)
+        for other in NAMES:
+            self.assertEqual(isinstance(error, getattr(errors, other)), other == name, other)
+
+    def test_no_fit(self):
+        self.check("NoFit", lambda: count_row(-1))
+        self.check("NoFit", lambda: count_row(2 ** 255 - 1))
+        self.check("NoFit", lambda: whole_row(2 ** 255 - 1))
+        self.check("NoFit", lambda: whole_row(-(2 ** 255)))
+        self.check("NoFit", lambda: fixed_row(-1, 5))
+        self.check("NoFit", lambda: fixed_row(6, 5))
+
+    def test_short(self):
+        self.check("Short", lambda: read_count("", 0))
+        self.check("Short", lambda: read_whole("1", 0))
+        self.check("Short", lambda: read_fixed("10", 0, 5))
+
+    def test_wrong(self):
+        self.check("Wrong", lambda: read_fixed("110", 0, 5))
+
+    def test_the_lesser_place_goes_first(self):
+        self.check("Wrong", lambda: read_fixed("11", 0, 5))
+        self.check("Short", lambda: read_fixed("1", 0, 5))
+
+
+if __name__ == "__main__":
+    unittest.main()
