@@ -18,11 +18,19 @@ def lower_digits(n, width):
     return "".join(["1" if (n >> k) & 1 == 1 else "0" for k in range(width - 1, -1, -1)])
 
 
+def is_count(n):
+    return n >= 0 and (n + 1).bit_length() <= MOST_DIGITS
+
+
+def has_whole_row(n):
+    return is_count(n if n >= 0 else -1 - n)
+
+
 def count_row(n):
+    if not is_count(n):
+        raise NoFit("the number is out of the range of counts")
     m = n + 1
     digits = m.bit_length()
-    if n < 0 or digits > MOST_DIGITS:
-        raise NoFit("the number is out of the range of counts")
     ahead = digits.bit_length() - 1
     # As many signs 1 as there may be end by themselves, without a 0.
     end = "" if ahead == MOST_AHEAD else "0"

@@ -3,10 +3,18 @@
 import unittest
 
 from keyrise import errors
+from keyrise.compounds import Choice, Many, Maybe, Record, Turned
 from keyrise.counts import count_row, fixed_row, read_count, read_fixed, read_whole, whole_row
+from keyrise.forms import Fraction, Letters, Nothing, Span, Truth, Whole
+from keyrise.fractions import fraction_of, fraction_row, read_fraction
+from keyrise.texts import form_of
 
 NAMES = ["NoFit", "Short", "Wrong", "Left", "NoForm", "NoText", "NotAhead", "BadPage", "Twice", "Lacking"]
 PLACED = ["Short", "Wrong", "Left"]
+FORMS = [
+    Nothing(), Truth(), Whole(), Span(0, 5), Fraction(), Letters("abc"), Maybe(Whole()), Many(Whole()),
+    Record([("a", Whole())]), Choice([("a", Whole())]), Turned(Whole()),
+]
 
 
 def refusal_of(ask):
@@ -71,6 +79,41 @@ class Refusals(unittest.TestCase):
 
     def test_wrong(self):
         self.check("Wrong", lambda: read_fixed("110", 0, 5))
+
+    def test_of_fractions(self):
+        self.check("NoFit", lambda: fraction_of([]))
+        self.check("NoFit", lambda: fraction_of([2, 1]))
+        self.check("NoFit", lambda: fraction_row((2, 4)))
+        self.check("NoFit", lambda: fraction_row((1, 0)))
+        self.check("NoFit", lambda: fraction_row((2 ** 255 - 1, 1)))
+        self.check("Short", lambda: read_fraction("10", 0))
+        self.check("Wrong", lambda: read_fraction("10111", 0))
+
+    def test_of_forms(self):
+        for form in FORMS:
+            self.check("NoFit", lambda: form.row("?"))
+            self.check("NoFit", lambda: form.row([[[]]]))
+            if form.shown() != "nothing":
+                self.check("Short", lambda: form.read("", 0))
+        self.check("Wrong", lambda: Span(0, 4).read("101", 0))
+        self.check("Wrong", lambda: Letters("abc").read("111", 0))
+        self.check("Wrong", lambda: Fraction().read("10111", 0))
+        self.check("Wrong", lambda: Many(Nothing()).read("1" * 61, 0))
+        self.check("Wrong", lambda: Turned(Span(0, 2)).read("00", 0))
+
+    def test_of_the_making_of_forms(self):
+        self.check("NoForm", lambda: Span(1, 0))
+        self.check("NoForm", lambda: Letters(""))
+        self.check("NoForm", lambda: Letters("aa"))
+        self.check("NoForm", lambda: Letters("a-"))
+        for made in (Record, Choice):
+            self.check("NoForm", lambda: made([]))
+            self.check("NoForm", lambda: made([("A", Whole())]))
+            self.check("NoForm", lambda: made([("a", Whole()), ("a", Whole())]))
+
+    def test_of_texts(self):
+        for text in ("", "?", "whole ", "span(1, 0)", "letters()", "record()", "span(00, 1)", "maybe(" * 9):
+            self.check("NoText", lambda: form_of(text))
 
     def test_the_lesser_place_goes_first(self):
         self.check("Wrong", lambda: read_fixed("11", 0, 5))

@@ -1,0 +1,42 @@
+"""Points 15 and 16: the order of the values, and that the rows stand in it."""
+
+import unittest
+
+from cases import ALL_FORMS, FormCase, fibonacci_fraction
+from keyrise.compounds import Turned
+from keyrise.forms import Fraction
+
+
+class Order(FormCase):
+    def check_pairs(self, text, form, values):
+        rows = [form.row(value) for value in values]
+        for k, one in enumerate(values):
+            for m, other in enumerate(values):
+                with self.subTest(text, one=one, other=other):
+                    self.assertIs(form.ahead(one, other), k < m)
+                    self.assertIs(rows[k] < rows[m], k < m)
+                    self.assertIs(rows[m].startswith(rows[k]), k == m)
+
+    def test_values_two_by_two(self):
+        for text, form, values in ALL_FORMS:
+            self.check_pairs(text, form, values)
+
+    def test_turned_the_other_way_about(self):
+        for text, form, values in ALL_FORMS:
+            self.check_pairs(text, Turned(form), values[::-1])
+
+    def test_all_values_fit(self):
+        for text, form, values in ALL_FORMS:
+            for value in values:
+                self.assertIs(form.fits(value), True, text)
+
+    def test_fractions_of_many_steps(self):
+        # With each step more the worth comes nearer, from below and from above in turn.
+        below = [fibonacci_fraction(steps) for steps in range(2, 201, 2)]
+        above = [fibonacci_fraction(steps) for steps in range(199, 0, -2)]
+        values = below[:3] + below[-5:] + above[:5] + above[-3:]
+        self.check_pairs("fraction", Fraction(), values)
+
+
+if __name__ == "__main__":
+    unittest.main()
