@@ -80,7 +80,12 @@ def draw_fraction(source):
     steps = [draw_whole(source)]
     while source.draw() == 1:
         source.turn()
+        # A step one can't end the row: where the signs have ended, the step is to be a greater one, and
+        # where they end behind a step one, another one is to follow.
+        source.wish(1)
         steps.append(draw_count(source) + 1)
+        if steps[-1] == 1:
+            source.wish(1)
     if not are_steps(steps):
         source.refuse()
     # The source is left as it was handed in; each step behind the first has turned it.

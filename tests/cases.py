@@ -3,7 +3,7 @@
 import unittest
 
 from keyrise.compounds import Choice, Many, Maybe, Record, Turned
-from keyrise.errors import NoFit, Short, Wrong
+from keyrise.errors import Left, NoFit, Short, Wrong
 from keyrise.forms import Fraction, Letters, Nothing, Span, Truth, Whole
 
 TOP = 2 ** 255 - 2
@@ -52,6 +52,14 @@ def rows_of_length(length):
 
 def rows_up_to(length):
     return [row for k in range(length + 1) for row in rows_of_length(k)]
+
+
+def outcome(ask, *handed):
+    """What is told, or the refusal's name and place."""
+    try:
+        return ("told", ask(*handed))
+    except (Short, Wrong, Left) as e:
+        return (type(e).__name__, e.place)
 
 
 # The text that writes a form, the form, and values of it, ascending.

@@ -7,6 +7,10 @@ from keyrise.compounds import Choice, Many, Maybe, Record, Turned
 from keyrise.counts import count_row, fixed_row, read_count, read_fixed, read_whole, whole_row
 from keyrise.forms import Fraction, Letters, Nothing, Span, Truth, Whole
 from keyrise.fractions import fraction_of, fraction_row, read_fraction
+from keyrise.pages import page_of, page_with, page_without, place_in, poured, rows_of
+from keyrise.reading import begun_by, read_all
+from keyrise.shelves import Shelf
+from keyrise.spans import parting_of, span_of
 from keyrise.texts import form_of
 
 NAMES = ["NoFit", "Short", "Wrong", "Left", "NoForm", "NoText", "NotAhead", "BadPage", "Twice", "Lacking"]
@@ -115,9 +119,56 @@ class Refusals(unittest.TestCase):
         for text in ("", "?", "whole ", "span(1, 0)", "letters()", "record()", "span(00, 1)", "maybe(" * 9):
             self.check("NoText", lambda: form_of(text))
 
+    def test_of_rows_read_whole(self):
+        for form in FORMS:
+            row = form.row(begun_by(form, ""))
+            self.check("Left", lambda: read_all(form, row + "0"))
+            self.check("Left", lambda: begun_by(form, row + "1"))
+            if row != "":
+                self.check("Short", lambda: read_all(form, row[:-1]))
+        for ask in (read_all, begun_by):
+            self.check("Wrong", lambda: ask(Span(0, 5), "11"))
+            self.check("Wrong", lambda: ask(Fraction(), "10111"))
+            self.check("Wrong", lambda: ask(Many(Nothing()), "1" * 61))
+
+    def test_of_spans(self):
+        form = Record([("a", Whole()), ("b", Whole())])
+        self.check("NoFit", lambda: span_of(form, [1, 2], (), ()))
+        self.check("NoFit", lambda: span_of(form, ["?"], (), ()))
+        self.check("NoFit", lambda: span_of(form, [1], (None,), ()))
+        self.check("NoFit", lambda: span_of(form, [1], (), (True,)))
+        self.check("NotAhead", lambda: parting_of("1", "0"))
+        self.check("NotAhead", lambda: parting_of("1", "1"))
+
+    def test_of_pages(self):
+        page = page_of(["0", "1"])
+        self.check("NotAhead", lambda: page_of(["1", "0"]))
+        self.check("NotAhead", lambda: page_of(["", ""]))
+        for bad in ("", "1", "00", page[:-1], page + "0", "1" * 300):
+            self.check("BadPage", lambda: rows_of(bad))
+            self.check("BadPage", lambda: place_in(bad, "0"))
+            self.check("BadPage", lambda: page_with(bad, "0"))
+            self.check("BadPage", lambda: page_without(bad, "0"))
+            self.check("BadPage", lambda: poured(bad, page))
+            self.check("BadPage", lambda: poured(page, bad))
+        self.check("Twice", lambda: page_with(page, "0"))
+        self.check("Lacking", lambda: page_without(page, "00"))
+
+    def test_of_shelves(self):
+        self.check("NoForm", lambda: Shelf(Whole(), 1))
+        self.check("NoForm", lambda: Shelf(Whole(), 21))
+        for form in FORMS:
+            shelf = Shelf(form, 2)
+            for ask in (shelf.put, shelf.take, shelf.has):
+                self.check("NoFit", lambda: ask("?"))
+
     def test_the_lesser_place_goes_first(self):
         self.check("Wrong", lambda: read_fixed("11", 0, 5))
         self.check("Short", lambda: read_fixed("1", 0, 5))
+        # A wrong sign stands ahead of the place where a row would have ended, or the signs do.
+        self.check("Wrong", lambda: read_all(Record([("a", Span(0, 5)), ("b", Truth())]), "11"))
+        self.check("Wrong", lambda: read_all(Span(0, 5), "1101"))
+        self.check("Left", lambda: read_all(Record([("a", Truth()), ("b", Nothing())]), "111"))
 
 
 if __name__ == "__main__":

@@ -1,4 +1,4 @@
-"""The source of signs that the reading goes through (points 2, 4 and 9)."""
+"""The source of signs that the reading goes through (points 2, 4, 9 and 20)."""
 
 import unittest
 
@@ -50,6 +50,32 @@ class Drawing(unittest.TestCase):
         with self.assertRaises(Wrong) as caught:
             source.refuse()
         self.assertEqual(caught.exception.place, 2)
+
+    def test_an_endless_source_goes_on_with_noughts(self):
+        source = Source("011", 1)
+        source.go_on()
+        self.assertEqual([source.draw() for k in range(5)], [1, 1, 0, 0, 0])
+        self.assertEqual(source.place, 3)
+        source.turn()
+        self.assertEqual(source.draw(), 0)
+        source = Source("", 0)
+        source.go_on()
+        self.assertEqual(source.draw(), 0)
+
+    def test_a_wish_counts_for_the_next_sign_alone(self):
+        source = Source("00", 0)
+        source.go_on()
+        told = []
+        for wishes in (True, True, False, True, False):
+            if wishes:
+                source.wish(1)
+            told.append(source.draw())
+        self.assertEqual(told, [0, 0, 0, 1, 0])
+
+    def test_a_wish_does_not_make_a_source_endless(self):
+        source = Source("1", 1)
+        source.wish(1)
+        self.assertRaises(Short, source.draw)
 
 
 if __name__ == "__main__":
